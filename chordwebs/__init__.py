@@ -1,0 +1,1 @@
+"""Chordwebs: webs told by chords of a ring."""

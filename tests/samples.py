@@ -1,0 +1,48 @@
+"""What several tests draw on: all small webs and rings, and things that are of no use as either."""
+
+from itertools import chain, combinations, permutations
+
+
+def all_pairs(many):
+    return list(combinations(range(many), 2))
+
+
+def all_webs(most):
+    """All webs of 1 to most places."""
+    webs = []
+    for many in range(1, most + 1):
+        pairs = all_pairs(many)
+        for count in range(len(pairs) + 1):
+            webs.extend((many, ties) for ties in combinations(pairs, count))
+    return webs
+
+
+def all_rings(most):
+    """All rings of 1 to most places."""
+    rings = []
+    for many in range(1, most + 1):
+        ends = chain.from_iterable((place, place) for place in range(many))
+        rings.extend(sorted(set(permutations(ends))))
+    return rings
+
+
+def deep(thing, depth):
+    for _ in range(depth):
+        thing = (thing, [thing])
+    return thing
+
+
+def chained(thing, depth):
+    for _ in range(depth):
+        thing = (thing,)
+    return thing
+
+
+# Built of whole numbers, truths, None, texts, lists, tuples and dicts; none is a web or a ring.
+NO_USE = (
+    None, True, False, 0, 1, 2, -1, 10 ** 50, "", "0", "00", "3 : 0-1 1-2", "0 1 0 1",
+    [], [0, 0], [1, []], [1, ()], {}, {0: 0}, {1: ()}, {"many": 1, "ties": ()},
+    (), (None,), (None, None), (True, True), (False, False), ("", ""), ("0", "0"), ([], []), ({}, {}), ((), ()),
+    ((1, ()),), ((1, ()), (1, ())), ((0, 0),), ((0, 0), (0, 0)), [(1, ())], {1: (1, ())}, ([0, 0], [0, 0]),
+    deep(1, 6), deep((1, ()), 6), deep((0, 0), 6), deep([], 6), deep(None, 6), chained((), 20), chained(0, 25), {1: [{2: ({3: []},)}]},
+)
