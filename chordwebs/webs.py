@@ -1,6 +1,6 @@
 """Webs [10], [11]: (many, ties), places and which two of them are tied."""
 
-from chordwebs.basics import MOST_PLACES, is_number, pairs
+from chordwebs.basics import MOST_PLACES, is_number, is_rising, pairs
 
 
 def is_web(thing):
@@ -22,10 +22,6 @@ def is_tie(many, thing):
     if not is_number(thing[0]) or not is_number(thing[1]):
         return False
     return 0 <= thing[0] < thing[1] < many
-
-
-def is_rising(ties):
-    return all([ties[k] < ties[k + 1] for k in range(len(ties) - 1)])
 
 
 def tied(web, one, other):

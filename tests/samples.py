@@ -17,6 +17,40 @@ def all_webs(most):
     return webs
 
 
+def web_number(many, number):
+    """The web whose ties are told by the bits of a number."""
+    pairs = all_pairs(many)
+    return (many, tuple(pair for k, pair in enumerate(pairs) if number >> k & 1))
+
+
+def some_webs(many, step):
+    """Every step-th web of that many places."""
+    return [web_number(many, number) for number in range(0, 1 << len(all_pairs(many)), step)]
+
+
+def round_web(many):
+    """Each place tied to the next one, the last one to the first."""
+    return (many, tuple(sorted([(k, k + 1) for k in range(many - 1)] + [(0, many - 1)])))
+
+
+def all_sides(many):
+    """All rising tuples of places, that of none and that of all among them."""
+    return [side for count in range(many + 1) for side in combinations(range(many), count)]
+
+
+def plainly_tied(web, one, other):
+    return (one, other) in web[1] or (other, one) in web[1]
+
+
+def plainly_turned(web, place):
+    ties = []
+    for one, other in all_pairs(web[0]):
+        both = plainly_tied(web, one, place) and plainly_tied(web, other, place)
+        if plainly_tied(web, one, other) is not both:
+            ties.append((one, other))
+    return (web[0], tuple(ties))
+
+
 def all_rings(most):
     """All rings of 1 to most places."""
     rings = []

@@ -3,16 +3,12 @@ import unittest
 from itertools import combinations, permutations, product
 
 from chordwebs.webs import around, is_web, kept, named, other_web, pieces, tied
-from samples import NO_USE, all_pairs, all_webs
+from samples import NO_USE, all_pairs, all_webs, plainly_tied
 
 SMALL = all_webs(4)
 PATH = (4, ((0, 1), (1, 2), (2, 3)))
 NINE = (9, ((0, 8), (1, 2), (1, 7), (2, 7), (3, 5), (5, 8)))
 FULL_NINE = (9, tuple(all_pairs(9)))
-
-
-def plainly_tied(web, one, other):
-    return (one, other) in web[1] or (other, one) in web[1]
 
 
 class IsWeb(unittest.TestCase):
