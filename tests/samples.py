@@ -1,6 +1,10 @@
 """What several tests draw on: all small webs and rings, and things that are of no use as either."""
 
+import re
 from itertools import chain, combinations, permutations
+
+# The signs that texts are of: from the blank to ~, without the percent sign.
+SIGNS = [chr(code) for code in range(32, 127) if code != 37]
 
 
 def all_pairs(many):
@@ -51,6 +55,35 @@ def plainly_turned(web, place):
     return (web[0], tuple(ties))
 
 
+def others_of(web, side):
+    return tuple(place for place in range(web[0]) if place not in side)
+
+
+def plain_row(web, side, place):
+    return {other for other in others_of(web, side) if plainly_tied(web, place, other)}
+
+
+def is_free(rows):
+    """No sum of one or more of the rows is empty."""
+    for count in range(1, len(rows) + 1):
+        for some in combinations(rows, count):
+            total = set()
+            for row in some:
+                total = total ^ row
+            if not total:
+                return False
+    return True
+
+
+def plain_rank(web, side):
+    rows = [plain_row(web, side, place) for place in side]
+    return max(count for count in range(len(side) + 1) if any(is_free(some) for some in combinations(rows, count)))
+
+
+def plainly_split(web, side):
+    return len(side) >= 2 and len(others_of(web, side)) >= 2 and plain_rank(web, side) <= 1
+
+
 def all_rings(most):
     """All rings of 1 to most places."""
     rings = []
@@ -58,6 +91,74 @@ def all_rings(most):
         ends = chain.from_iterable((place, place) for place in range(many))
         rings.extend(sorted(set(permutations(ends))))
     return rings
+
+
+def chords(ends):
+    """All ways to join the ends two by two, each a list of pairs."""
+    if not ends:
+        return [[]]
+    ways = []
+    for k in range(1, len(ends)):
+        ways.extend([(ends[0], ends[k])] + rest for rest in chords(ends[1:k] + ends[k + 1:]))
+    return ways
+
+
+def ring_of_chords(pairs):
+    ends = {end: place for place, pair in enumerate(pairs) for end in pair}
+    return tuple(ends[end] for end in range(len(ends)))
+
+
+def plainly_cross(ring, one, other):
+    ends = [place for place in ring if place in (one, other)]
+    return ends in ([one, other, one, other], [other, one, other, one])
+
+
+def all_turnings(ring):
+    size = len(ring)
+    ahead = [tuple(ring[(start + step) % size] for step in range(size)) for start in range(size)]
+    back = [tuple(ring[(start - step) % size] for step in range(size)) for start in range(size)]
+    return ahead + back
+
+
+def plainly_web(text):
+    """The web that a text writes, or None, by the form of the whole text."""
+    if not re.fullmatch(r"[1-9] :( [0-8]-[0-8])*", text):
+        return None
+    many = int(text[0])
+    ties = [(int(text[k]), int(text[k + 2])) for k in range(4, len(text), 4)]
+    rising = all(ties[k] < ties[k + 1] for k in range(len(ties) - 1))
+    inside = all(one < other < many for one, other in ties)
+    return (many, tuple(ties)) if rising and inside else None
+
+
+def plainly_ring(text):
+    """The ring that a text writes, or None, by the form of the whole text."""
+    if not re.fullmatch(r"[0-8]( [0-8])*", text):
+        return None
+    numbers = [int(figure) for figure in text[::2]]
+    right = sorted(numbers) == sorted(list(range(len(numbers) // 2)) * 2)
+    return tuple(numbers) if right else None
+
+
+def one_sign_off(text):
+    """The text with a sign out, a sign more, or a sign in the stead of another."""
+    texts = [text[:k] + text[k + 1:] for k in range(len(text))]
+    for sign in SIGNS:
+        texts.extend(text[:k] + sign + text[k:] for k in range(len(text) + 1))
+        texts.extend(text[:k] + sign + text[k + 1:] for k in range(len(text)))
+    return texts
+
+
+def words_off(text):
+    """The text with a word out, twice, or two exchanged."""
+    words = text.split(" ")
+    rows = [words[:k] + words[k + 1:] for k in range(len(words))]
+    rows += [words[:k + 1] + words[k:] for k in range(len(words))]
+    for k, j in all_pairs(len(words)):
+        row = list(words)
+        row[k], row[j] = row[j], row[k]
+        rows.append(row)
+    return [" ".join(row) for row in rows]
 
 
 def deep(thing, depth):

@@ -32,6 +32,13 @@ NO_WORDS = (
     "NamedTuple TypedDict TYPE_CHECKING abstractmethod"
 ).split()
 NO_PARTS = ("dataclass", "overload", "contextmanager")
+ASKED_KINDS = ("int", "str", "bool", "list", "tuple", "dict")
+WALKS = ("zip", "enumerate", "reversed", "range")
+WALKERS = ("list", "tuple", "dict", "sorted", "sum", "any", "all", "enumerate", "zip", "min", "max")
+KEYWORDS = {
+    "sorted": ("key", "reverse"), "min": ("key", "default"), "max": ("key", "default"), "sum": ("start",),
+    "enumerate": ("start",), "zip": ("strict",),
+}
 
 
 def sources():
@@ -63,6 +70,32 @@ def locals_of(function):
     names = [argument.arg for argument in function.args.args]
     stored = [node for node in ast.walk(function) if isinstance(node, ast.Name) and isinstance(node.ctx, ast.Store)]
     return names + [node.id for node in stored]
+
+
+def with_parents(tree):
+    """Each node of a tree and that in which it stands."""
+    return [(child, node) for node in ast.walk(tree) for child in ast.iter_child_nodes(node)]
+
+
+def called(node):
+    """The plain name that is called, or None."""
+    return node.func.id if isinstance(node, ast.Call) and isinstance(node.func, ast.Name) else None
+
+
+def is_walked(node, parent):
+    if isinstance(parent, (ast.For, ast.comprehension)):
+        return parent.iter is node
+    if isinstance(parent, ast.Call) and isinstance(parent.func, ast.Attribute):
+        return parent.func.attr == "join" and isinstance(parent.func.value, ast.Constant)
+    return called(parent) in WALKERS and parent.args[0] is node
+
+
+def is_set_in_its_place(node, parent, grand):
+    if isinstance(parent, ast.BinOp):
+        return called(grand) in ("sorted", "len") and not grand.keywords
+    if isinstance(parent, ast.Compare):
+        return isinstance(parent.ops[0], (ast.In, ast.NotIn, ast.Eq, ast.NotEq))
+    return called(parent) in ("sorted", "len") and not parent.keywords
 
 
 def drawn_from(tree):
@@ -175,6 +208,81 @@ class Form(unittest.TestCase):
             for node in ast.walk(tree):
                 if isinstance(node, ast.Call) and isinstance(node.func, ast.Attribute):
                     self.assertIn(node.func.attr, METHODS + defined, name)
+
+    def test_walked_at_once(self):
+        for name, tree in trees().items():
+            for node, parent in with_parents(tree):
+                if called(node) in WALKS:
+                    self.assertTrue(is_walked(node, parent), f"{name}:{node.lineno}")
+                if isinstance(node, ast.Attribute) and node.attr in ("items", "keys", "values"):
+                    self.fail(f"{name}:{node.lineno} is to be looked at")
+
+    def test_sets(self):
+        for name, tree in trees().items():
+            inside = dict(with_parents(tree))
+            for node, parent in inside.items():
+                self.assertNotIsInstance(node, ast.Set, name)
+                if called(node) in ("set", "frozenset"):
+                    self.assertTrue(is_set_in_its_place(node, parent, inside.get(parent)), f"{name}:{node.lineno}")
+
+    def test_python_own_as_they_are_called(self):
+        for name, tree in trees().items():
+            for node, parent in with_parents(tree):
+                if isinstance(node, ast.Call) and node.keywords:
+                    known = KEYWORDS.get(called(node), ())
+                    self.assertEqual([word.arg for word in node.keywords if word.arg not in known], [], name)
+                if called(node) == "isinstance":
+                    self.assertIn(getattr(node.args[1], "id", None), ASKED_KINDS, name)
+                elif isinstance(node, ast.Name) and node.id in BUILT_IN and called(parent) != node.id:
+                    allowed = called(parent) == "isinstance" or isinstance(parent, ast.ClassDef)
+                    self.assertTrue(allowed, f"{name}:{node.lineno} {node.id}")
+
+    def test_lists_and_dicts_at_the_top_are_only_read(self):
+        for name, tree in trees().items():
+            tops = [node for node in tree.body if isinstance(node, ast.Assign)]
+            held = [node.targets[0].id for node in tops if isinstance(node.value, (ast.List, ast.Dict))]
+            for top in tops:
+                within = [node for node in ast.walk(top.value) if node is not top.value]
+                self.assertFalse(any(isinstance(node, (ast.List, ast.Dict, ast.Call)) for node in within), name)
+            for node, parent in with_parents(tree):
+                if isinstance(node, ast.Name) and node.id in held and isinstance(node.ctx, ast.Load):
+                    read = isinstance(parent, ast.Subscript) and isinstance(parent.ctx, ast.Load)
+                    asked = isinstance(parent, ast.Compare) and node in parent.comparators
+                    self.assertTrue(read or asked, f"{name}:{node.lineno}")
+
+    def test_classes(self):
+        methods = []
+        values = []
+        for name, tree in trees().items():
+            for node in ast.walk(tree):
+                if isinstance(node, ast.ClassDef):
+                    self.assertIn(node, tree.body, name)
+                    own = [part.name for part in node.body if isinstance(part, ast.FunctionDef)]
+                    self.assertEqual(sorted(own), sorted(set(own)), name)
+                    self.assertEqual([word for word in own if word in DUNDERS and word != "__init__"], [], name)
+                    methods.extend(own)
+                if isinstance(node, ast.Attribute) and isinstance(node.ctx, ast.Store):
+                    self.assertEqual(node.value.id, "self", name)
+                    values.append(node.attr)
+        python_own = [word for kind in (str, int, list, dict, set, tuple, bytes, ValueError) for word in dir(kind)]
+        self.assertEqual([word for word in methods if word in values], [])
+        self.assertEqual([word for word in methods + values if word in python_own and word != "__init__"], [])
+
+    def test_errors_are_made_on_the_spot(self):
+        own = bound_at_top(trees()["errors.py"])
+        for name, tree in trees().items():
+            for node in ast.walk(tree):
+                if isinstance(node, ast.Raise):
+                    self.assertIn(called(node.exc), own, name)
+                    self.assertIsNone(node.cause, name)
+                self.assertNotIsInstance(node, ast.Try, name)
+
+    def test_numbers_and_texts(self):
+        for name, tree in trees().items():
+            for node in ast.walk(tree):
+                self.assertNotIsInstance(node, ast.Pow, name)
+        for name, text in sources().items():
+            self.assertNotIn("\\", text, name)
 
 
 if __name__ == "__main__":

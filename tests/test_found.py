@@ -5,28 +5,13 @@ from chordwebs.found import ring_of, tells
 from chordwebs.rings import is_ring, web_of
 from chordwebs.turns import web_turned
 from chordwebs.webs import kept, named, pieces
-from samples import all_pairs, all_rings, all_sides, all_webs, round_web, some_webs
+from samples import all_pairs, all_rings, all_sides, all_webs, chords, ring_of_chords, round_web, some_webs
 
 WHEEL = (6, ((0, 1), (0, 2), (0, 3), (0, 4), (0, 5), (1, 2), (1, 5), (2, 3), (3, 4), (4, 5)))
 # Two threes, each place of the one tied to one of the other: the wheel turned at its rim.
 PRISM = (6, ((0, 1), (0, 2), (0, 3), (1, 2), (1, 4), (2, 5), (3, 4), (3, 5), (4, 5)))
 CUBE = (7, ((0, 1), (0, 3), (0, 5), (1, 2), (1, 6), (2, 3), (3, 4), (4, 5), (5, 6)))
 NINE_RING = (0, 1, 2, 3, 4, 5, 6, 7, 8, 4, 0, 8, 2, 1, 7, 5, 3, 6)
-
-
-def chords(ends):
-    """All ways to join the ends two by two, each a list of pairs."""
-    if not ends:
-        return [[]]
-    ways = []
-    for k in range(1, len(ends)):
-        ways.extend([(ends[0], ends[k])] + rest for rest in chords(ends[1:k] + ends[k + 1:]))
-    return ways
-
-
-def ring_of_chords(pairs):
-    ends = {end: place for place, pair in enumerate(pairs) for end in pair}
-    return tuple(ends[end] for end in range(len(ends)))
 
 
 def degrees(web):

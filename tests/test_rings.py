@@ -4,7 +4,7 @@ from itertools import permutations, product
 
 from chordwebs.rings import is_ring, least, mirrored, named_ring, same, turned_round, web_of, without
 from chordwebs.webs import is_web, kept, named
-from samples import NO_USE, all_pairs, all_rings
+from samples import NO_USE, all_pairs, all_rings, all_turnings, plainly_cross
 
 THREE = all_rings(3)
 FOUR = [ring for ring in all_rings(4) if len(ring) == 8]
@@ -12,18 +12,6 @@ SOME_FOUR = FOUR[::7]
 NINE = (0, 1, 2, 3, 4, 5, 6, 7, 8, 4, 0, 8, 2, 1, 7, 5, 3, 6)
 ALL_CROSS = tuple(range(9)) * 2
 NONE_CROSS = tuple(range(9)) + tuple(range(8, -1, -1))
-
-
-def plainly_cross(ring, one, other):
-    ends = [place for place in ring if place in (one, other)]
-    return ends in ([one, other, one, other], [other, one, other, one])
-
-
-def all_turnings(ring):
-    size = len(ring)
-    ahead = [tuple(ring[(start + step) % size] for step in range(size)) for start in range(size)]
-    back = [tuple(ring[(start - step) % size] for step in range(size)) for start in range(size)]
-    return ahead + back
 
 
 class IsRing(unittest.TestCase):

@@ -6,7 +6,8 @@ from chordwebs.rings import is_ring, web_of
 from chordwebs.splits import cut_rank, is_split, parted, put_together, ring_together, splits
 from chordwebs.turns import web_turned
 from chordwebs.webs import is_web, named
-from samples import NO_USE, all_pairs, all_rings, all_sides, all_webs, plainly_tied, round_web, some_webs
+from samples import NO_USE, all_pairs, all_rings, all_sides, all_webs, others_of, plain_rank, plain_row
+from samples import plainly_split, plainly_tied, round_web, some_webs
 
 SMALL = all_webs(4)
 PATH = (4, ((0, 1), (1, 2), (2, 3)))
@@ -17,35 +18,6 @@ LARGE = some_webs(5, 31) + some_webs(6, 2501) + some_webs(7, 499979)
 RINGS = [ring for ring in all_rings(3) if len(ring) > 2]
 FOUR_RINGS = [ring for ring in all_rings(4) if len(ring) == 8][::83]
 NINE_RING = (0, 1, 2, 3, 4, 5, 6, 7, 8, 4, 0, 8, 2, 1, 7, 5, 3, 6)
-
-
-def others_of(web, side):
-    return tuple(place for place in range(web[0]) if place not in side)
-
-
-def plain_row(web, side, place):
-    return {other for other in others_of(web, side) if plainly_tied(web, place, other)}
-
-
-def is_free(rows):
-    """No sum of one or more of the rows is empty."""
-    for count in range(1, len(rows) + 1):
-        for some in combinations(rows, count):
-            total = set()
-            for row in some:
-                total = total ^ row
-            if not total:
-                return False
-    return True
-
-
-def plain_rank(web, side):
-    rows = [plain_row(web, side, place) for place in side]
-    return max(count for count in range(len(side) + 1) if any(is_free(some) for some in combinations(rows, count)))
-
-
-def plainly_split(web, side):
-    return len(side) >= 2 and len(others_of(web, side)) >= 2 and plain_rank(web, side) <= 1
 
 
 def plain_part(web, side):
